@@ -2,13 +2,19 @@ package rules
 
 import (
 	"go/ast"
+	"go/build"
+	"go/importer"
 	"go/parser"
 	"go/token"
+	"go/types"
+	"os/exec"
+	"path/filepath"
+	"strings"
 	"testing"
 )
 
-// ways are the document's, as far as a file's form shows them without its types.
-func ways(n ast.Node) string {
+// ways are the document's, as far as a file's form and its types show them.
+func ways(n ast.Node, info *types.Info) string {
 	switch x := n.(type) {
 	case *ast.FuncLit:
 		return "closure"
@@ -18,6 +24,22 @@ func ways(n ast.Node) string {
 		}
 	case *ast.StarExpr:
 		return "pointer"
+	case *ast.ImportSpec:
+		return "help of " + x.Path.Value
+	case *ast.RangeStmt:
+		return rangeOver(info.TypeOf(x.X))
+	}
+	return ""
+}
+
+func rangeOver(t types.Type) string {
+	switch x := t.Underlying().(type) {
+	case *types.Signature:
+		return "range-function"
+	case *types.Basic:
+		if x.Info()&types.IsInteger != 0 {
+			return "range-integer"
+		}
 	}
 	return ""
 }
@@ -25,20 +47,56 @@ func ways(n ast.Node) string {
 // asked are the ways that the chapters of the layers that are built ask for, of those that are seen here.
 func asked() map[string][]string {
 	return map[string][]string{
-		"crc": {"array", "pointer", "closure"},
+		"word": {"range-integer", "range-function", `help of "slices"`},
+		"crc":  {"array", "pointer", "closure"},
+		"bits": {"range-function", `help of "math/bits"`},
 	}
 }
 
+// findLibrary tells the importer where Go's library lies, which a test built with -trimpath does not know.
+func findLibrary(t *testing.T) {
+	if build.Default.GOROOT != "" {
+		return
+	}
+	out, err := exec.Command("go", "env", "GOROOT").Output()
+	if err != nil {
+		t.Fatal(err)
+	}
+	build.Default.GOROOT = strings.TrimSpace(string(out))
+}
+
+// parsed are a layer's files and their types.
+func parsed(t *testing.T, layer string) ([]*ast.File, *types.Info) {
+	fset := token.NewFileSet()
+	var files []*ast.File
+	for _, path := range layerFiles(t, layer) {
+		// The importer finds the module by whole paths alone.
+		path, err := filepath.Abs(path)
+		if err != nil {
+			t.Fatal(err)
+		}
+		f, err := parser.ParseFile(fset, path, nil, 0)
+		if err != nil {
+			t.Fatal(err)
+		}
+		files = append(files, f)
+	}
+	info := &types.Info{Types: map[ast.Expr]types.TypeAndValue{}}
+	config := types.Config{Importer: importer.ForCompiler(fset, "source", nil)}
+	if _, err := config.Check("sculler/"+layer, fset, files, info); err != nil {
+		t.Fatal(err)
+	}
+	return files, info
+}
+
 func TestWaysOfTheChapters(t *testing.T) {
+	findLibrary(t)
 	for layer, want := range asked() {
 		got := map[string]bool{}
-		for _, path := range layerFiles(t, layer) {
-			f, err := parser.ParseFile(token.NewFileSet(), path, nil, 0)
-			if err != nil {
-				t.Fatal(err)
-			}
+		files, info := parsed(t, layer)
+		for _, f := range files {
 			ast.Inspect(f, func(n ast.Node) bool {
-				got[ways(n)] = true
+				got[ways(n, info)] = true
 				return true
 			})
 		}
