@@ -24,6 +24,11 @@ func ways(n ast.Node, info *types.Info) string {
 		}
 	case *ast.StarExpr:
 		return "pointer"
+	case *ast.UnaryExpr:
+		// A pointer is had by an address, where its type is not spelt.
+		if x.Op == token.AND {
+			return "address"
+		}
 	case *ast.ImportSpec:
 		return "help of " + x.Path.Value
 	case *ast.RangeStmt:
@@ -50,6 +55,7 @@ func asked() map[string][]string {
 		"word": {"range-integer", "range-function", `help of "slices"`},
 		"crc":  {"array", "pointer", "closure"},
 		"bits": {"range-function", `help of "math/bits"`},
+		"span": {"closure", "address"},
 	}
 }
 
