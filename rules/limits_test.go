@@ -4,6 +4,7 @@ import (
 	"testing"
 
 	"sculler/api"
+	"sculler/timer"
 	"sculler/word"
 )
 
@@ -41,6 +42,18 @@ func TestWordEndsAtMaxNum(t *testing.T) {
 	}
 	if got := word.Ceil(api.MaxNum+1, 1); got != 0 {
 		t.Errorf("Ceil(MaxNum + 1, 1) = %d", got)
+	}
+}
+
+func TestTimerEndsAtMaxTimer(t *testing.T) {
+	q := timer.New()
+	for key := range api.MaxTimer {
+		if !q.Set(key, 0) {
+			t.Fatalf("Set of key %d is false", key)
+		}
+	}
+	if q.Set(api.MaxTimer, 0) {
+		t.Error("there are more than MaxTimer keys")
 	}
 }
 

@@ -29,6 +29,17 @@ func ways(n ast.Node, info *types.Info) string {
 		if x.Op == token.AND {
 			return "address"
 		}
+	case *ast.MapType:
+		return "map"
+	case *ast.TypeAssertExpr:
+		// Without a type it is the head of a type switch.
+		if x.Type != nil {
+			return "assertion"
+		}
+	case *ast.CallExpr:
+		if f, ok := x.Fun.(*ast.Ident); ok && info.Types[f].IsBuiltin() {
+			return f.Name
+		}
 	case *ast.ImportSpec:
 		return "help of " + x.Path.Value
 	case *ast.RangeStmt:
@@ -52,10 +63,11 @@ func rangeOver(t types.Type) string {
 // asked are the ways that the chapters of the layers that are built ask for, of those that are seen here.
 func asked() map[string][]string {
 	return map[string][]string{
-		"word": {"range-integer", "range-function", `help of "slices"`},
-		"crc":  {"array", "pointer", "closure"},
-		"bits": {"range-function", `help of "math/bits"`},
-		"span": {"closure", "address"},
+		"word":  {"range-integer", "range-function", `help of "slices"`},
+		"crc":   {"array", "pointer", "closure"},
+		"bits":  {"range-function", `help of "math/bits"`},
+		"span":  {"closure", "address"},
+		"timer": {`help of "container/heap"`, "assertion", "pointer", "map", "delete"},
 	}
 }
 
