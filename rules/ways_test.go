@@ -40,10 +40,27 @@ func ways(n ast.Node, info *types.Info) string {
 		if f, ok := x.Fun.(*ast.Ident); ok && info.Types[f].IsBuiltin() {
 			return f.Name
 		}
+	case *ast.Ellipsis:
+		// Without a type it is the length of an array.
+		if x.Elt != nil {
+			return "variadic"
+		}
+	case *ast.BranchStmt:
+		return x.Tok.String()
+	case *ast.BinaryExpr:
+		return compared(x, info)
 	case *ast.ImportSpec:
 		return "help of " + x.Path.Value
 	case *ast.RangeStmt:
 		return rangeOver(info.TypeOf(x.X))
+	}
+	return ""
+}
+
+func compared(x *ast.BinaryExpr, info *types.Info) string {
+	_, isStruct := info.TypeOf(x.X).Underlying().(*types.Struct)
+	if isStruct && (x.Op == token.EQL || x.Op == token.NEQ) {
+		return "struct-compared"
 	}
 	return ""
 }
@@ -68,6 +85,7 @@ func asked() map[string][]string {
 		"bits":  {"range-function", `help of "math/bits"`},
 		"span":  {"closure", "address"},
 		"timer": {`help of "container/heap"`, "assertion", "pointer", "map", "delete"},
+		"ptr":   {"variadic", "fallthrough", "struct-compared"},
 	}
 }
 
