@@ -47,6 +47,8 @@ func ways(n ast.Node, info *types.Info) string {
 		}
 	case *ast.BranchStmt:
 		return x.Tok.String()
+	case *ast.LabeledStmt:
+		return "label"
 	case *ast.BinaryExpr:
 		return compared(x, info)
 	case *ast.ImportSpec:
@@ -86,6 +88,7 @@ func asked() map[string][]string {
 		"span":  {"closure", "address"},
 		"timer": {`help of "container/heap"`, "assertion", "pointer", "map", "delete"},
 		"ptr":   {"variadic", "fallthrough", "struct-compared"},
+		"arena": {"range-function", "label"},
 	}
 }
 
