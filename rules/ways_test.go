@@ -9,13 +9,24 @@ import (
 	"go/types"
 	"os/exec"
 	"path/filepath"
+	"slices"
 	"strings"
 	"testing"
 )
 
-// ways are the document's, as far as a file's form and its types show them.
-func ways(n ast.Node, info *types.Info) string {
+// ways are the document's, as far as a file's form and its types show them; what is called was seen ahead of its name.
+func ways(n ast.Node, info *types.Info, called map[ast.Expr]bool) string {
 	switch x := n.(type) {
+	case *ast.FuncDecl:
+		return callsItself(x, info)
+	case *ast.StructType:
+		if slices.ContainsFunc(x.Fields.List, func(f *ast.Field) bool { return f.Names == nil }) {
+			return "embedding"
+		}
+	case *ast.SelectorExpr:
+		if s := info.Selections[x]; s != nil && s.Kind() == types.MethodVal && !called[x] {
+			return "method-value"
+		}
 	case *ast.FuncLit:
 		return "closure"
 	case *ast.ArrayType:
@@ -37,6 +48,7 @@ func ways(n ast.Node, info *types.Info) string {
 			return "assertion"
 		}
 	case *ast.CallExpr:
+		called[ast.Unparen(x.Fun)] = true
 		if f, ok := x.Fun.(*ast.Ident); ok && info.Types[f].IsBuiltin() {
 			return f.Name
 		}
@@ -57,6 +69,17 @@ func ways(n ast.Node, info *types.Info) string {
 		return rangeOver(info.TypeOf(x.X))
 	}
 	return ""
+}
+
+func callsItself(x *ast.FuncDecl, info *types.Info) string {
+	way := ""
+	ast.Inspect(x.Body, func(n ast.Node) bool {
+		if name, ok := n.(*ast.Ident); ok && info.Uses[name] == info.Defs[x.Name] {
+			way = "itself"
+		}
+		return true
+	})
+	return way
 }
 
 func compared(x *ast.BinaryExpr, info *types.Info) string {
@@ -89,6 +112,7 @@ func asked() map[string][]string {
 		"timer": {`help of "container/heap"`, "assertion", "pointer", "map", "delete"},
 		"ptr":   {"variadic", "fallthrough", "struct-compared"},
 		"arena": {"range-function", "label"},
+		"build": {"embedding", "method-value", "itself"},
 	}
 }
 
@@ -120,7 +144,10 @@ func parsed(t *testing.T, layer string) ([]*ast.File, *types.Info) {
 		}
 		files = append(files, f)
 	}
-	info := &types.Info{Types: map[ast.Expr]types.TypeAndValue{}}
+	info := &types.Info{
+		Types: map[ast.Expr]types.TypeAndValue{}, Selections: map[*ast.SelectorExpr]*types.Selection{},
+		Defs: map[*ast.Ident]types.Object{}, Uses: map[*ast.Ident]types.Object{},
+	}
 	config := types.Config{Importer: importer.ForCompiler(fset, "source", nil)}
 	if _, err := config.Check("sculler/"+layer, fset, files, info); err != nil {
 		t.Fatal(err)
@@ -131,11 +158,11 @@ func parsed(t *testing.T, layer string) ([]*ast.File, *types.Info) {
 func TestWaysOfTheChapters(t *testing.T) {
 	findLibrary(t)
 	for layer, want := range asked() {
-		got := map[string]bool{}
+		got, called := map[string]bool{}, map[ast.Expr]bool{}
 		files, info := parsed(t, layer)
 		for _, f := range files {
 			ast.Inspect(f, func(n ast.Node) bool {
-				got[ways(n, info)] = true
+				got[ways(n, info, called)] = true
 				return true
 			})
 		}
