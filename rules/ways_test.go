@@ -23,10 +23,12 @@ func ways(n ast.Node, info *types.Info, called map[ast.Expr]bool) string {
 		if slices.ContainsFunc(x.Fields.List, func(f *ast.Field) bool { return f.Names == nil }) {
 			return "embedding"
 		}
-	case *ast.SelectorExpr:
-		if s := info.Selections[x]; s != nil && s.Kind() == types.MethodVal && !called[x] {
-			return "method-value"
+	case *ast.InterfaceType:
+		if x.Methods.NumFields() > 0 {
+			return "interface"
 		}
+	case *ast.SelectorExpr:
+		return selected(info.Selections[x], called[x])
 	case *ast.FuncLit:
 		return "closure"
 	case *ast.ArrayType:
@@ -67,6 +69,19 @@ func ways(n ast.Node, info *types.Info, called map[ast.Expr]bool) string {
 		return "help of " + x.Path.Value
 	case *ast.RangeStmt:
 		return rangeOver(info.TypeOf(x.X))
+	}
+	return ""
+}
+
+// selected is the way in which a method is taken, or called.
+func selected(s *types.Selection, isCalled bool) string {
+	switch {
+	case s == nil || s.Kind() != types.MethodVal:
+		return ""
+	case !isCalled:
+		return "method-value"
+	case types.IsInterface(s.Recv()):
+		return "interface-call"
 	}
 	return ""
 }
@@ -113,6 +128,7 @@ func asked() map[string][]string {
 		"ptr":   {"variadic", "fallthrough", "struct-compared"},
 		"arena": {"range-function", "label"},
 		"build": {"embedding", "method-value", "itself"},
+		"read":  {"interface", "interface-call", "embedding", "label", "method-value"},
 	}
 }
 
