@@ -129,6 +129,7 @@ func asked() map[string][]string {
 		"arena": {"range-function", "label"},
 		"build": {"embedding", "method-value", "itself"},
 		"read":  {"interface", "interface-call", "embedding", "label", "method-value"},
+		"tree":  {"itself", "range-function"},
 	}
 }
 
