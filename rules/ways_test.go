@@ -1,6 +1,7 @@
 package rules
 
 import (
+	"cmp"
 	"go/ast"
 	"go/build"
 	"go/importer"
@@ -18,7 +19,7 @@ import (
 func ways(n ast.Node, info *types.Info, called map[ast.Expr]bool) string {
 	switch x := n.(type) {
 	case *ast.FuncDecl:
-		return callsItself(x, info)
+		return cmp.Or(callsItself(x, info), shadows(x, info))
 	case *ast.StructType:
 		if slices.ContainsFunc(x.Fields.List, func(f *ast.Field) bool { return f.Names == nil }) {
 			return "embedding"
@@ -97,6 +98,25 @@ func callsItself(x *ast.FuncDecl, info *types.Info) string {
 	return way
 }
 
+// shadows says whether a method stands ahead of one that its object would else have of what it embeds.
+func shadows(x *ast.FuncDecl, info *types.Info) string {
+	if x.Recv == nil {
+		return ""
+	}
+	own := info.TypeOf(x.Recv.List[0].Type)
+	if p, ok := own.(*types.Pointer); ok {
+		own = p.Elem()
+	}
+	fields, isStruct := own.Underlying().(*types.Struct)
+	for i := 0; isStruct && i < fields.NumFields(); i++ {
+		f := fields.Field(i)
+		if o, _, _ := types.LookupFieldOrMethod(f.Type(), true, f.Pkg(), x.Name.Name); f.Embedded() && o != nil {
+			return "shadow"
+		}
+	}
+	return ""
+}
+
 func compared(x *ast.BinaryExpr, info *types.Info) string {
 	_, isStruct := info.TypeOf(x.X).Underlying().(*types.Struct)
 	if isStruct && (x.Op == token.EQL || x.Op == token.NEQ) {
@@ -130,6 +150,7 @@ func asked() map[string][]string {
 		"build": {"embedding", "method-value", "itself"},
 		"read":  {"interface", "interface-call", "embedding", "label", "method-value"},
 		"tree":  {"itself", "range-function"},
+		"valid": {"embedding", "shadow"},
 	}
 }
 
