@@ -24,6 +24,10 @@ func ways(n ast.Node, info *types.Info, called map[ast.Expr]bool) string {
 		if slices.ContainsFunc(x.Fields.List, func(f *ast.Field) bool { return f.Names == nil }) {
 			return "embedding"
 		}
+	case *ast.FuncType:
+		if x.TypeParams != nil {
+			return "generic-function"
+		}
 	case *ast.InterfaceType:
 		if x.Methods.NumFields() > 0 {
 			return "interface"
@@ -151,6 +155,7 @@ func asked() map[string][]string {
 		"read":  {"interface", "interface-call", "embedding", "label", "method-value"},
 		"tree":  {"itself", "range-function"},
 		"valid": {"embedding", "shadow"},
+		"mani":  {"range-function", `help of "slices"`, "generic-function", "closure"},
 	}
 }
 
